@@ -22,6 +22,10 @@ def make_rule(a, b):
     return is_factor(a) and is_shift(b) and not less(plus(a, b), ONE)
 
 
+def is_rule(thing):
+    return isinstance(thing, tuple) and len(thing) == 2 and make_rule(thing[0], thing[1])
+
+
 def rule_of(a, b):
     if not make_rule(a, b):
         raise NoRule("these two make no rule")
@@ -45,6 +49,10 @@ def pushes(rule, many):
     return (factor, shift)
 
 
+def pushed_by(push, x):
+    # For many xs pushed alike: the push, as pushes tells it, is reckoned but once.
+    return plus(times(push[0], x), push[1])
+
+
 def pushed(rule, x, many):
-    both = pushes(rule, many)
-    return plus(times(both[0], x), both[1])
+    return pushed_by(pushes(rule, many), x)

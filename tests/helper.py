@@ -1,4 +1,4 @@
-"""What several tests need: sample numbers, and a look at refusals."""
+"""What several tests need: samples, the words of the document gone through step by step, a look at refusals."""
 
 import unittest
 from fractions import Fraction
@@ -21,12 +21,126 @@ NO_NUMBERS = (
 )
 
 
+RISING = (
+    ((9, 8), (0, 1)), ((9, 8), (1, 12)), ((8, 7), (1, 11)), ((3, 2), (1, 12)), ((5, 4), (1, 3)), ((31, 8), (11, 12)),
+    ((4, 1), (1, 1)),
+)
+EVEN = (((1, 1), (0, 1)), ((1, 1), (1, 12)), ((1, 1), (2, 11)), ((1, 1), (1, 4)), ((1, 1), (1, 1)))
+FALLING = (
+    ((7, 8), (1, 8)), ((7, 8), (1, 6)), ((5, 7), (4, 11)), ((1, 2), (1, 2)), ((1, 2), (3, 5)), ((1, 8), (8, 9)),
+    ((1, 8), (1, 1)),
+)
+RULES = RISING + EVEN + FALLING
+SIZES = (
+    (1,), (3,), (8,), (1, 1), (2, 1), (1, 2), (4, 4), (1, 7), (1, 1, 1), (2, 1, 1), (1, 2, 1), (3, 2, 3),
+    (1, 1, 1, 1), (2, 1, 2, 3), (1, 2, 1, 2, 1), (1, 1, 1, 1, 1, 1), (1, 1, 1, 2, 1, 1, 1), (1,) * 8,
+)
+
+
 def as_number(fraction):
     return (fraction.numerator, fraction.denominator)
 
 
 def as_fraction(number):
     return Fraction(number[0], number[1])
+
+
+class Draws:
+    """Draws that are the same in each run and under each Python."""
+
+    def __init__(self, seed):
+        self.state = seed
+
+    def below(self, bound):
+        self.state = (self.state * 6364136223846793005 + 1442695040888963407) % 2 ** 64
+        return (self.state >> 33) % bound
+
+    def one_of(self, things):
+        return things[self.below(len(things))]
+
+    def phase(self):
+        bottom = 1 + self.below(60)
+        return as_number(Fraction(self.below(bottom), bottom))
+
+    def phases(self, many):
+        few = [self.phase() for done in range(many)]
+        # Drawn out of few again, so that some are alike.
+        return tuple(self.one_of(few) for done in range(many))
+
+    def any_places(self, sizes):
+        tops = [self.below(2 * 10 ** 6) - 10 ** 6 for size in sizes[1:]]
+        return tuple(as_number(Fraction(top, 1 + self.below(10 ** 6))) for top in tops)
+
+    def falling_places(self, sizes):
+        told = set()
+        while len(told) < len(sizes) - 1:
+            told.add(as_fraction(self.phase()))
+            told.discard(0)
+        return tuple(as_number(place) for place in sorted(told, reverse=True))
+
+    def shuffled(self, things):
+        told = list(things)
+        for place in range(len(told)):
+            other = self.below(place + 1)
+            told[place], told[other] = told[other], told[place]
+        return told
+
+
+def sample_swarms(seed, rules, each):
+    draws = Draws(seed)
+    return [(rule, draws.phases(worms)) for rule in rules for worms in range(1, 9) for done in range(each)]
+
+
+def fraction_pushed(rule, x, many):
+    for done in range(many):
+        x = as_fraction(rule[0]) * x + as_fraction(rule[1])
+    return x
+
+
+def glow_push_by_push(swarm):
+    """Point 9 as its words go, with fractions."""
+    phases = [as_fraction(phase) for phase in swarm[1]]
+    wait = 1 - max(phases)
+    phases = [phase + wait for phase in phases]
+    waves = []
+    glowed = set()
+    wave = [worm for worm, phase in enumerate(phases) if phase == 1]
+    while wave:
+        waves.append(tuple(sorted(wave)))
+        glowed |= set(wave)
+        others = [worm for worm in range(len(phases)) if worm not in glowed]
+        for pusher in wave:
+            for worm in others:
+                phases[worm] = fraction_pushed(swarm[0], phases[worm], 1)
+        wave = [worm for worm in others if phases[worm] >= 1]
+    told = [Fraction(0) if worm in glowed else phase for worm, phase in enumerate(phases)]
+    return as_number(wait), tuple(waves), (swarm[0], tuple(as_number(phase) for phase in told))
+
+
+def round_glow_by_glow(rule, sizes, places):
+    """Point 14 as its words go, with fractions: the places behind, the time, the tops."""
+    phases = [as_fraction(place) for place in places] + [Fraction(0)]
+    waits = []
+    tops = []
+    for turn in range(len(sizes)):
+        waits.append(1 - phases[turn])
+        phases = [phase + waits[-1] for phase in phases]
+        phases[turn] = Fraction(0)
+        for other in range(len(sizes)):
+            if other != turn:
+                phases[other] = fraction_pushed(rule, phases[other], sizes[turn])
+        tops.append(phases[0] if turn == len(sizes) - 1 else phases[turn + 1])
+    assert phases[-1] == 0
+    told = tuple(as_number(phase) for phase in phases[:-1])
+    return told, as_number(sum(waits)), tuple(as_number(top) for top in tops)
+
+
+def swarm_laid(rule, sizes, places, draws):
+    """A swarm of these sizes and places, its worms in any order."""
+    phases = []
+    for size, place in zip(sizes, places + ((0, 1),)):
+        phases.extend([place] * size)
+    return rule, tuple(draws.shuffled(phases))
 
 
 class GlowCase(unittest.TestCase):

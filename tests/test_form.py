@@ -34,6 +34,8 @@ WORDS = (
     "type typing typing_extensions enum Enum IntEnum StrEnum Flag IntFlag Generic Protocol ABC ABCMeta namedtuple "
     "NamedTuple TypedDict TYPE_CHECKING abstractmethod"
 ).split()
+WALKED = "zip enumerate reversed range items keys values".split()
+WALKERS = "list tuple dict sorted sum any all enumerate zip min max join".split()
 UNUSED = "register mro elements open input version_info with_traceback add_note format format_map".split()
 
 
@@ -57,7 +59,50 @@ def drawn_from(path):
     return [node.module for node in syntax(path).body if isinstance(node, ast.ImportFrom)]
 
 
+def called(node):
+    if not isinstance(node, ast.Call):
+        return None
+    return getattr(node.func, "id", getattr(node.func, "attr", None))
+
+
+def is_plain(node):
+    if isinstance(node, (ast.List, ast.Tuple)):
+        return all(is_plain(part) for part in node.elts)
+    if isinstance(node, ast.Dict):
+        return all(is_plain(part) for part in node.keys + node.values)
+    if isinstance(node, ast.UnaryOp):
+        return is_plain(node.operand)
+    return isinstance(node, (ast.Constant, ast.Name))
+
+
 class Form(unittest.TestCase):
+    def test_the_top_of_a_module(self):
+        for path in FILES:
+            tree = syntax(path)
+            self.assertIsNotNone(ast.get_docstring(tree), path)
+            for node in tree.body[1:]:
+                if path.name == "__main__.py" and isinstance(node, ast.If):
+                    continue
+                self.assertIsInstance(node, (ast.ImportFrom, ast.Import, ast.FunctionDef, ast.ClassDef, ast.Assign))
+                if isinstance(node, ast.Assign):
+                    self.assertTrue(is_plain(node.value), (path, node.lineno))
+
+    def test_no_annotations(self):
+        for path, node in nodes((ast.arg, ast.FunctionDef)):
+            self.assertIsNone(getattr(node, "annotation", None), (path, node.lineno))
+            self.assertIsNone(getattr(node, "returns", None), (path, node.lineno))
+
+    def test_what_is_walked_is_walked_at_once(self):
+        for path in FILES:
+            tree = syntax(path)
+            at_once = [node.iter for node in ast.walk(tree) if isinstance(node, (ast.For, ast.comprehension))]
+            for node in ast.walk(tree):
+                if called(node) in WALKERS:
+                    at_once.extend(node.args)
+            for node in ast.walk(tree):
+                if called(node) in WALKED:
+                    self.assertTrue(any(node is place for place in at_once), (path, node.lineno))
+
     def test_files(self):
         self.assertTrue((PACKAGE / "__init__.py").is_file())
         for path in FILES:
