@@ -37,7 +37,7 @@ def sums_of_places(both, places, many):
 def rounds_time(rule, sizes, places, many):
     if many < 1:
         return NOUGHT
-    # The time of a round rises evenly with each place, so one round of the mean places stands for
+    # The time of a round goes evenly with each place, so one round of the mean places stands for
     # all of them; walking each one would take long where the places have many figures.
     count = (many, 1)
     mean = tuple([over(total, count) for total in sums_of_places(round_map(rule, sizes), places, many)])
