@@ -11,6 +11,10 @@ def is_whole(thing):
     return isinstance(thing, int) and not isinstance(thing, bool)
 
 
+def is_whole_from(least, most, thing):
+    return is_whole(thing) and least <= thing <= most
+
+
 def greatest_divisor(one, other):
     # Of two whole numbers from 0 on; a loop, since deep calls aren't the same on each Python.
     while other != 0:
@@ -39,19 +43,30 @@ def number(top, bottom):
 
 
 def plus(one, other):
-    return number(one[0] * other[1] + other[0] * one[1], one[1] * other[1])
+    # Only what divides both bottoms can divide the sum's top and bottom: looking there alone is
+    # short where one of the two has few figures, however many the other has.
+    shared = greatest_divisor(one[1], other[1])
+    top = one[0] * (other[1] // shared) + other[0] * (one[1] // shared)
+    divisor = greatest_divisor(abs(top), shared)
+    return (top // divisor, one[1] // shared * (other[1] // divisor))
 
 
 def minus(one, other):
-    return number(one[0] * other[1] - other[0] * one[1], one[1] * other[1])
+    return plus(one, (-other[0], other[1]))
 
 
 def times(one, other):
-    return number(one[0] * other[0], one[1] * other[1])
+    # A top and its own bottom share nothing, so that what is shared is looked for crosswise.
+    first = greatest_divisor(abs(one[0]), other[1])
+    second = greatest_divisor(abs(other[0]), one[1])
+    return (one[0] // first * (other[0] // second), one[1] // second * (other[1] // first))
 
 
 def over(one, other):
-    return number(one[0] * other[1], one[1] * other[0])
+    if other[0] == 0:
+        raise NoNumber("nothing is told over 0")
+    turned = (other[1], other[0]) if other[0] > 0 else (-other[1], -other[0])
+    return times(one, turned)
 
 
 def less(one, other):

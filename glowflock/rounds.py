@@ -6,10 +6,14 @@ from glowflock.rules import pushed_by, pushes
 from glowflock.swarms import flocks
 
 
+def is_laid(swarm):
+    return NOUGHT in swarm[1]
+
+
 def laid(swarm):
-    rows = flocks(swarm)
-    if rows[-1][0] != NOUGHT:
+    if not is_laid(swarm):
         raise NoStand("no worm is at 0")
+    rows = flocks(swarm)
     sizes = tuple([len(row[1]) for row in rows])
     places = tuple([row[0] for row in rows[:-1]])
     return (sizes, places)

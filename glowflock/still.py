@@ -3,7 +3,7 @@
 from glowflock.errors import TooLong
 from glowflock.numbers import NOUGHT, ONE, less, minus, over, plus, times
 from glowflock.rounds import is_free, round_map, round_time, tops
-from glowflock.rules import bend, pushed
+from glowflock.rules import bend, pushes
 
 MOST_FREE = 30
 
@@ -16,9 +16,15 @@ def still(rule, sizes):
     return tuple([over(shift, gap) for shift in both[1]])
 
 
+def weighed(both, places, of_place, of_shift):
+    return tuple([plus(times(of_place, place), times(of_shift, shift)) for place, shift in zip(places, both[1])])
+
+
 def led_on(both, places, many):
-    # A round, told as round_map tells it, moves each place as a push does: by a factor and a shift.
-    return tuple([pushed((both[0], shift), place, many) for place, shift in zip(places, both[1])])
+    # A round, told as round_map tells it, moves each place as a push does. With 1 in the shift's
+    # place the pushes tell how often each shift comes in, so that they are reckoned but once.
+    push = pushes((both[0], ONE), many)
+    return weighed(both, places, push[0], push[1])
 
 
 def rounds_behind(rule, sizes, places, many):
@@ -26,12 +32,13 @@ def rounds_behind(rule, sizes, places, many):
 
 
 def sums_of_places(both, places, many):
-    told = tuple([NOUGHT for place in places])
-    ahead = places
+    of_place = NOUGHT
+    of_shift = NOUGHT
     for done in range(many):
-        told = tuple([plus(total, place) for total, place in zip(told, ahead)])
-        ahead = led_on(both, ahead, 1)
-    return told
+        # How often the shift is in the places ahead of a round is the sum of the powers so far.
+        of_shift = plus(of_shift, of_place)
+        of_place = plus(times(both[0], of_place), ONE)
+    return weighed(both, places, of_place, of_shift)
 
 
 def rounds_time(rule, sizes, places, many):
@@ -44,6 +51,11 @@ def rounds_time(rule, sizes, places, many):
     return times(count, round_time(rule, sizes, mean))
 
 
+def draws_freely(rule, sizes):
+    # Asked of falling rules: rounds that draw near the still places never come to a top of 1.
+    return not any([less(ONE, top) for top in tops(rule, sizes, still(rule, sizes))])
+
+
 def stays_free(rule, sizes, places):
     # Asked of places whose first round is free.
     way = bend(rule)
@@ -51,7 +63,7 @@ def stays_free(rule, sizes, places):
         return tuple(places) == still(rule, sizes)
     if way == "even":
         return all([shift == NOUGHT for shift in round_map(rule, sizes)[1]])
-    return not any([less(ONE, top) for top in tops(rule, sizes, still(rule, sizes))])
+    return draws_freely(rule, sizes)
 
 
 def free_rounds(rule, sizes, places):

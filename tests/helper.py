@@ -21,6 +21,18 @@ NO_NUMBERS = (
 )
 
 
+def nested(deep):
+    inner = nested(deep - 1) if deep > 1 else 1
+    return ([inner], (inner, 1), {"one": inner})[deep % 3]
+
+
+KINDS = (
+    None, True, False, 0, 1, -1, 2, 7, 30, 31, 40, 41, GREAT, 0.0, 1.0, 0.5, "", "0", "one", "rests", "drawn", "One",
+    "one ", b"one", (), [], {}, (0,), [0], (0, 1), [0, 1], (1, 1), (1, 2), (0, 2), (True, 1), (0, True), (0, 1, 1),
+    (0.0, 1), ((0, 1),), ((0, 1), (0, 1)), [(0, 1), (0, 1)], (None,), ("one",), {0: 0, 1: 1}, {0: (0, 1)}, {0, 1},
+    frozenset(), range(2), Fraction(1, 2), object(), len, int, nested(4), nested(5), nested(6),
+)
+
 RISING = (
     ((9, 8), (0, 1)), ((9, 8), (1, 12)), ((8, 7), (1, 11)), ((3, 2), (1, 12)), ((5, 4), (1, 3)), ((31, 8), (11, 12)),
     ((4, 1), (1, 1)),
@@ -133,6 +145,116 @@ def round_glow_by_glow(rule, sizes, places):
     assert phases[-1] == 0
     told = tuple(as_number(phase) for phase in phases[:-1])
     return told, as_number(sum(waits)), tuple(as_number(top) for top in tops)
+
+
+def laid_of(swarm):
+    """The sizes and places of a swarm that has a worm at 0."""
+    falling = sorted({as_fraction(phase) for phase in swarm[1]}, reverse=True)
+    sizes = tuple(sum(as_fraction(phase) == place for phase in swarm[1]) for place in falling)
+    return sizes, tuple(as_number(place) for place in falling[:-1])
+
+
+def walked(swarm, many):
+    """The hour and the swarm behind many glows, gone through push by push, and how many of the glows join."""
+    hour = Fraction(0)
+    joins = 0
+    for done in range(many):
+        wait, waves, swarm = glow_push_by_push(swarm)
+        hour += as_fraction(wait)
+        joins += len(waves) > 1
+    return as_number(hour), swarm, joins
+
+
+def written(swarm, steps, word):
+    """The paper with such rounds and glows, its stands come to push by push."""
+    rows = []
+    hour = Fraction(0)
+    for rounds, glows in steps:
+        rows.append((as_number(hour), swarm[1], rounds, glows))
+        wait, swarm, joins = walked(swarm, rounds * len(set(swarm[1])) + glows)
+        hour += as_fraction(wait)
+    return rows + [(as_number(hour), swarm[1], word)]
+
+
+def tick_push_by_push(web, stand):
+    """Point 26 as its words go."""
+    rounds, ups, ties = web
+    phases = [phase + 1 for phase in stand[0]]
+    ended = [worm for worm, phase in enumerate(phases) if phase >= rounds[worm]]
+
+    def push(worm):
+        if worm not in ended:
+            phases[worm] += ups[worm][phases[worm]]
+            if phases[worm] >= rounds[worm]:
+                ended.append(worm)
+
+    for worm, many in enumerate(stand[1][0]):
+        for done in range(many):
+            push(worm)
+    waves = []
+    later = [list(row) for row in stand[1][1:]] + [[0] * len(phases)]
+    glowed = []
+    while len(glowed) < len(ended):
+        wave = sorted(worm for worm in ended if worm not in glowed)
+        waves.append(tuple(wave))
+        glowed.extend(wave)
+        for tie in ties:
+            if tie[0] in wave and tie[2] == 0:
+                push(tie[1])
+            elif tie[0] in wave:
+                later[tie[2] - 1][tie[1]] += 1
+    anew = tuple(0 if worm in glowed else phase for worm, phase in enumerate(phases))
+    return tuple(waves), (anew, tuple(tuple(row) for row in later))
+
+
+def sample_webs(seed, each):
+    """Webs of one to eight worms, some with short rounds and some with long ones, each with phases."""
+    draws = Draws(seed)
+    told = []
+    for worms in range(1, 9):
+        for done in range(each):
+            longest = draws.one_of((3, 9, 20, 60))
+            rounds = tuple(1 + draws.below(longest) for worm in range(worms))
+            highest = draws.one_of((1, 3, 9, 61))
+            ups = tuple(tuple(draws.below(highest) for phase in range(count)) for count in rounds)
+            all_ties = [(one, to, delay) for one in range(worms) for to in range(worms) for delay in range(5)]
+            ties = draws.shuffled([tie for tie in all_ties if tie[0] != tie[1]])[:draws.one_of((2, 8, 20, 60))]
+            phases = tuple(draws.below(count) for count in rounds)
+            told.append(((rounds, ups, tuple(sorted(ties))), phases))
+    return told
+
+
+def is_same(one, other):
+    """Alike, and of the same kinds all through: a truth and a whole number aren't."""
+    if type(one) is not type(other):
+        return False
+    if isinstance(one, (list, tuple)):
+        return len(one) == len(other) and all(is_same(part, its) for part, its in zip(one, other))
+    return one == other
+
+
+def ways_into(thing):
+    """The way to each thing within lists and tuples, and to the whole."""
+    told = [()]
+    if isinstance(thing, (list, tuple)):
+        for turn, part in enumerate(thing):
+            told.extend((turn,) + way for way in ways_into(part))
+    return told
+
+
+def what_lies_at(thing, way):
+    for turn in way:
+        thing = thing[turn]
+    return thing
+
+
+def with_other(thing, way, change):
+    """The same thing, but what lies at the end of the way is changed."""
+    if not way:
+        return change(thing)
+    parts = list(thing)
+    parts[way[0]] = with_other(parts[way[0]], way[1:], change)
+    return type(thing)(parts)
 
 
 def swarm_laid(rule, sizes, places, draws):
