@@ -265,6 +265,43 @@ def swarm_laid(rule, sizes, places, draws):
     return rule, tuple(draws.shuffled(phases))
 
 
+def number_text(number):
+    """Point 33 as Python's own fractions write it."""
+    return str(as_fraction(number))
+
+
+def texts_of(numbers):
+    return " ".join(number_text(number) for number in numbers)
+
+
+def swarm_text(swarm):
+    return "rule " + texts_of(swarm[0]) + "\nworms " + texts_of(swarm[1])
+
+
+def web_text(web):
+    lines = [["worm", count] + list(ups) for count, ups in zip(web[0], web[1])]
+    lines.extend(["tie"] + list(tie) for tie in web[2])
+    return "\n".join(" ".join(map(str, line)) for line in lines)
+
+
+def paper_text(paper):
+    rows = [(number_text(row[0]), texts_of(row[1]), " ".join(map(str, row[2:]))) for row in paper]
+    return "; ".join(" : ".join(row) for row in rows)
+
+
+def near_texts(text, signs):
+    """Each text that has one sign less, more or another one, or two neighbours exchanged."""
+    told = {}
+    for place in range(len(text) + 1):
+        head, tail = text[:place], text[place:]
+        told[head + tail[1:]] = True
+        told[head + tail[1:2] + tail[:1] + tail[2:]] = True
+        for sign in signs:
+            told[head + sign + tail] = True
+            told[head + sign + tail[1:]] = True
+    return list(told)
+
+
 class GlowCase(unittest.TestCase):
     def refused(self, name, call, *things):
         with self.assertRaises(errors.GlowError) as caught:

@@ -184,6 +184,36 @@ class Form(unittest.TestCase):
                 if isinstance(node, ast.Name) and isinstance(node.ctx, ast.Store):
                     self.assertNotIn(node.id, brought + classes, (path, node.lineno))
 
+    def test_classes_are_plain(self):
+        for path in FILES:
+            tree = syntax(path)
+            tops = [node for node in tree.body if isinstance(node, ast.ClassDef)]
+            for node in ast.walk(tree):
+                if not isinstance(node, ast.ClassDef):
+                    continue
+                self.assertIn(node, tops, (path, node.name))
+                self.assertLessEqual(len(node.bases), 1, (path, node.name))
+                self.assertEqual(node.keywords + node.decorator_list, [], (path, node.name))
+                for part in node.body:
+                    self.assertIsInstance(part, (ast.FunctionDef, ast.Pass), (path, node.name))
+                methods = [part.name for part in node.body if isinstance(part, ast.FunctionDef)]
+                self.assertEqual(len(set(methods)), len(methods), (path, node.name))
+
+    def test_lists_and_dicts_of_the_top_are_only_read(self):
+        for path in FILES:
+            tree = syntax(path)
+            kept = [node for node in tree.body if isinstance(node, ast.Assign)]
+            kept = [node.targets[0].id for node in kept if isinstance(node.value, (ast.List, ast.Dict))]
+            read = []
+            for node in ast.walk(tree):
+                if isinstance(node, ast.Subscript) and isinstance(node.ctx, ast.Load):
+                    read.append(node.value)
+                if isinstance(node, ast.Compare):
+                    read.extend(node.comparators)
+            for node in ast.walk(tree):
+                if isinstance(node, ast.Name) and isinstance(node.ctx, ast.Load) and node.id in kept:
+                    self.assertTrue(any(node is place for place in read), (path, node.lineno))
+
     def test_imports_are_of_the_package_by_the_defining_file(self):
         for path, node in nodes((ast.Import, ast.ImportFrom)):
             if isinstance(node, ast.Import):
