@@ -14,6 +14,7 @@ from glowflock.texts import (
 
 MOVE_FIGURES = 6
 GLOWS_FIGURES = 2
+WORM_FIGURES = 1
 
 
 def with_commas(worms):
@@ -83,8 +84,9 @@ def is_count(word):
     return is_whole_text(word, GLOWS_FIGURES) and int(word) <= MOST_GLOWS
 
 
-def is_worm(word, worms):
-    return is_whole_text(word, 1) and int(word) < worms
+def is_worm_text(word):
+    # Whether there is such a worm isn't asked here: what is no order is refused where worms are exchanged.
+    return is_whole_text(word, WORM_FIGURES)
 
 
 def is_said(first, words, worms):
@@ -93,7 +95,7 @@ def is_said(first, words, worms):
     if first == "move":
         return len(words) == 1 and is_number_text(words[0], MOVE_FIGURES)
     if first == "exchange":
-        return len(words) == worms and all([is_worm(word, worms) for word in words])
+        return len(words) == worms and all([is_worm_text(word) for word in words])
     if first == "look":
         # Whatever follows is its text, also one without signs, but the blank must be there.
         return len(words) > 0

@@ -2,6 +2,7 @@
 
 import unittest
 from fractions import Fraction
+from itertools import product
 
 from glowflock.desk import Desk
 from glowflock.errors import GlowError
@@ -103,7 +104,7 @@ def drawn_row(draws, model):
     if kind == 2:
         order = draws.shuffled(range(worms))
         if draws.below(4) == 0:
-            order[0] = order[-1]
+            order[0] = (order[-1], worms, 9)[draws.below(3)]
         return "exchange " + " ".join(map(str, order)), model.exchange(order)
     if kind in (3, 4):
         return "back", model.back()
@@ -353,8 +354,8 @@ class TakenBack(DeskCase):
         first = told_at(desk)
         desk.say("glow")
         for name, row in (
-            ("NoSwarm", "move 1"), ("NoSwarm", "exchange 0 0 0"), ("NoRow", "glows 41"), ("NoText", "look x"),
-            ("NoRow", "glow "),
+            ("NoSwarm", "move 1"), ("NoSwarm", "exchange 0 0 0"), ("NoSwarm", "exchange 0 1 9"), ("NoRow", "glows 41"),
+            ("NoText", "look x"), ("NoRow", "glow "),
         ):
             self.stays(name, desk, row)
         self.answers(desk, "back", "ok")
@@ -443,33 +444,69 @@ class Refused(DeskCase):
         self.answers(desk, "move 666665/999999", "ok")
         self.stays("NoSwarm", desk, "move 2/999999")
 
-    def test_worms_of_other_numbers(self):
+    def test_worms_not_written_as_told(self):
         for worms in range(1, 9):
             desk = Desk("rule 1 0\nworms" + " 0" * worms)
             right = [str(worm) for worm in range(worms)]
             self.answers(desk, "exchange " + " ".join(right), "ok")
-            others = ["-1", "-0", "+0", "00", "01", "x", "1/2", "", "\u0660", "0\n"]
-            for word in [str(worm) for worm in range(worms, 12)] + others:
+            for word in ("10", "11", "-1", "-0", "+0", "00", "01", "09", "x", "1/2", "", "\u0660", "0\n", "0,1"):
                 self.stays("NoRow", desk, "exchange " + " ".join([word] + right[1:]))
                 self.stays("NoRow", desk, "exchange " + " ".join(right[:-1] + [word]))
-            for count in (worms - 1, worms + 1):
-                self.stays("NoRow", desk, " ".join(["exchange"] + ["0"] * count))
+                # Of two refusals the first one goes first: beside a number twice, and beside one of no worm.
+                if worms > 1:
+                    self.stays("NoRow", desk, "exchange" + " 0" * (worms - 1) + " " + word)
+                    self.stays("NoRow", desk, "exchange" + " 9" * (worms - 1) + " " + word)
+
+    def test_other_counts_of_words_than_worms(self):
+        for worms in range(1, 9):
+            desk = Desk("rule 1 0\nworms" + " 0" * worms)
+            right = [str(worm) for worm in range(worms)]
+            for count in [count for count in range(12) if count != worms]:
+                for figure in ("0", "9"):
+                    self.stays("NoRow", desk, " ".join(["exchange"] + [figure] * count))
+            for more in ("0", "8", "9", str(worms)):
+                self.stays("NoRow", desk, "exchange " + " ".join(right + [more]))
+
+    def test_figures_that_are_no_order_of_the_worms(self):
+        for worms in range(1, 9):
+            desk = Desk("rule 1 1/12\nworms" + "".join([f" {worm}/13" for worm in range(1, worms + 1)]))
+            desk.say("glow")
+            right = [str(worm) for worm in range(worms)]
+            for number in range(worms, 10):
+                for place in range(worms):
+                    words = right[:place] + [str(number)] + right[place + 1:]
+                    self.stays("NoSwarm", desk, "exchange " + " ".join(words))
+                self.stays("NoSwarm", desk, "exchange" + f" {number}" * worms)
+            self.stays("NoSwarm", desk, "exchange " + " ".join([str(worm + 1) for worm in range(worms)]))
             if worms > 1:
                 self.stays("NoSwarm", desk, "exchange" + " 0" * worms)
                 self.stays("NoSwarm", desk, "exchange " + " ".join(right[:-1] + right[:1]))
-                # Of two refusals the first one goes first.
-                self.stays("NoRow", desk, "exchange" + " 0" * (worms - 1) + " 9")
+                self.stays("NoSwarm", desk, "exchange" + " 0" * (worms - 1) + " 9")
+            # None of them is a change: the glow is the one to be taken back.
+            self.answers(desk, "back", "ok")
+            self.stays("NoBack", desk, "back")
+
+    def test_all_rows_of_figures_for_few_worms(self):
+        for worms in (1, 2, 3):
+            desk = Desk("rule 1 1/12\nworms " + " ".join(["1/5", "0", "3/4"][:worms]))
+            for figures in product("0123456789", repeat=worms):
+                row = "exchange " + " ".join(figures)
+                if sorted(figures) == list("012")[:worms]:
+                    self.answers(desk, row, "ok")
+                    desk.say("back")
+                else:
+                    self.stays("NoSwarm", desk, row)
 
     def test_near_rows(self):
         for first in ("glow", "hour", "back", "glows 13", "move 1/12", "exchange 1 0 2"):
-            for row in near_texts(first, " 0124/-x"):
+            for row in near_texts(first, " 01249/-x"):
                 desk = Desk(THREE)
                 head, blank, tail = row.partition(" ")
                 known = row in ALONE
                 if head == "glows":
                     known = tail.isdigit() and str(int(tail)) == tail and int(tail) <= 40
                 if head == "exchange":
-                    known = len(tail) == 5 and tail[1::2] == "  " and set(tail[::2]) <= set("012")
+                    known = len(tail) == 5 and tail[1::2] == "  " and set(tail[::2]) <= set("0123456789")
                 if head == "move":
                     self.near_move(desk, row, tail)
                 elif not known:

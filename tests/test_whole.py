@@ -246,6 +246,7 @@ class RefusalsDueAtOnce(GlowCase):
             ("NoRow", Desk("rule 1 1\nworms 0 0").say, "exchange 0 0 0"),
             ("NoRow", Desk("rule 1 1\nworms 0 0").say, "exchange 0 "),
             ("NoSwarm", Desk("rule 1 1\nworms 0 0").say, "exchange 0 0"),
+            ("NoSwarm", Desk("rule 1 1\nworms 0 0").say, "exchange 0 9"),
             ("NoRow", Desk("rule 1 1\nworms 0 0").say, "move 9 "),
             ("NoSwarm", Desk("rule 1 1\nworms 0 0").say, "move 9"),
             ("NoStand", Desk("rule 9/8 1/10\nworms 35/59 1/59").say, "free"),
